@@ -1,0 +1,1 @@
+"""Timetables that come again each round, and papers that show what can't be kept."""

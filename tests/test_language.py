@@ -1,0 +1,139 @@
+"""The package's files keep to the part of Python that the program is written in (its plainest rules)."""
+
+import ast
+import builtins
+import pathlib
+import re
+import unittest
+
+FOLDER = pathlib.Path(__file__).resolve().parent.parent / "beatplans"
+OWN = set(
+    "len range enumerate zip min max sum abs sorted reversed int str bool bytes list tuple dict set frozenset "
+    "isinstance ord repr any all divmod Exception ValueError TypeError KeyError IndexError LookupError "
+    "ZeroDivisionError ArithmeticError OverflowError RuntimeError NotImplementedError AttributeError StopIteration".split()
+)
+METHODS = {"__init__", "__eq__", "__repr__", "__str__", "__len__"}
+WORDS = (
+    "type|typing|typing_extensions|enum|Enum|IntEnum|StrEnum|Flag|IntFlag|Generic|Protocol|ABC|ABCMeta|namedtuple|"
+    "NamedTuple|TypedDict|TYPE_CHECKING|abstractmethod|register|mro|elements|open|input|version_info"
+)
+OUT = (
+    ast.With, ast.Match, ast.Global, ast.Nonlocal, ast.Yield, ast.YieldFrom, ast.Await, ast.AsyncFunctionDef,
+    ast.AsyncFor, ast.AsyncWith, ast.GeneratorExp, ast.NamedExpr, ast.Div, ast.MatMult, ast.Import, ast.TryStar,
+)
+
+
+def files():
+    return sorted(FOLDER.glob("*.py"))
+
+
+def trees():
+    return [(path, ast.parse(path.read_text())) for path in files()]
+
+
+def bound_in(tree):
+    """Each name that is bound by an assignment, a loop or a parameter."""
+    for node in ast.walk(tree):
+        if isinstance(node, ast.Name) and not isinstance(node.ctx, ast.Load):
+            yield node.id
+        elif isinstance(node, ast.arg):
+            yield node.arg
+        elif isinstance(node, ast.ExceptHandler) and node.name:
+            yield node.name
+
+
+class Language(unittest.TestCase):
+
+    def test_files(self):
+        self.assertIn(FOLDER / "__init__.py", files())
+        for path in FOLDER.iterdir():
+            if path.name != "__pycache__":
+                self.assertRegex(path.name, r"^[a-z0-9_]+\.py$")
+
+    def test_signs_and_sizes(self):
+        for path in files():
+            lines = path.read_text().split("\n")
+            self.assertLessEqual(len(lines), 401, path)
+            for line in lines:
+                self.assertLessEqual(len(line), 120, path)
+                self.assertRegex(line, r"^[ -~]*$", path)
+
+    def test_words_that_stand_nowhere(self):
+        for path in files():
+            text = path.read_text()
+            self.assertIsNone(re.search(rf"\b({WORDS})\b", text), path)
+            self.assertIsNone(re.search("dataclass|overload|contextmanager", text), path)
+
+    def test_imports(self):
+        tops = {}
+        draws = {}
+        for path, tree in trees():
+            made = [node.name for node in tree.body if isinstance(node, (ast.FunctionDef, ast.ClassDef))]
+            made += [target.id for node in tree.body if isinstance(node, ast.Assign) for target in node.targets]
+            self.assertEqual(len(made), len(set(made)), path)
+            tops[f"beatplans.{path.stem}"] = made
+        for path, tree in trees():
+            inner = [node for node in ast.walk(tree) if isinstance(node, ast.ImportFrom)]
+            self.assertEqual(inner, [node for node in tree.body if isinstance(node, ast.ImportFrom)], path)
+            for node in inner:
+                self.assertEqual(node.level, 0, path)
+                for alias in node.names:
+                    self.assertIn(alias.name, tops[node.module], path)
+            draws[f"beatplans.{path.stem}"] = [node.module for node in inner]
+        while draws:
+            free = [name for name in draws if not set(draws[name]) & set(draws)]
+            self.assertTrue(free, "files that draw from one another")
+            for name in free:
+                del draws[name]
+
+    def test_rows_and_values(self):
+        for path, tree in trees():
+            for node in ast.walk(tree):
+                where = f"{path}:{getattr(node, 'lineno', 0)}"
+                self.assertNotIsInstance(node, OUT, where)
+                if isinstance(node, ast.Constant):
+                    self.assertNotIsInstance(node.value, (float, complex), where)
+                    self.assertNotIn("%", node.value if isinstance(node.value, str) else "", where)
+                if isinstance(node, ast.Starred):
+                    self.assertIsInstance(node.ctx, ast.Store, where)
+                if isinstance(node, (ast.For, ast.While)):
+                    self.assertEqual(node.orelse, [], where)
+                if isinstance(node, ast.Compare):
+                    for sign, right in zip(node.ops, node.comparators):
+                        if isinstance(sign, (ast.Is, ast.IsNot)):
+                            self.assertIsInstance(right, ast.Constant, where)
+                if isinstance(node, ast.BinOp) and isinstance(node.op, ast.Pow):
+                    self.assertIsInstance(node.right, ast.Constant, where)
+
+    def test_defs_and_classes(self):
+        for path, tree in trees():
+            for node in ast.walk(tree):
+                where = f"{path}:{getattr(node, 'lineno', 0)}"
+                if isinstance(node, ast.FunctionDef):
+                    self.assertLessEqual(node.end_lineno - node.lineno + 1, 40, where)
+                    self.assertEqual(node.decorator_list, [], where)
+                    self.assertIsNone(node.args.vararg or node.args.kwarg, where)
+                    self.assertEqual(node.args.posonlyargs, [], where)
+                    self.assertTrue(node.name in METHODS or re.match("[A-Za-z]", node.name), where)
+                if isinstance(node, ast.ClassDef):
+                    self.assertIn(node, tree.body, where)
+                    self.assertLessEqual(len(node.bases), 1, where)
+                    for row in node.body:
+                        self.assertIsInstance(row, (ast.FunctionDef, ast.Expr, ast.Pass), where)
+
+    def test_names(self):
+        python = set(dir(builtins))
+        for path, tree in trees():
+            drawn = {alias.asname or alias.name for node in tree.body if isinstance(node, ast.ImportFrom)
+                     for alias in node.names}
+            classes = {node.name for node in tree.body if isinstance(node, ast.ClassDef)}
+            for name in bound_in(tree):
+                self.assertNotIn(name, python | drawn | classes, path)
+                self.assertRegex(name, "^[A-Za-z]", path)
+            for node in ast.walk(tree):
+                if isinstance(node, ast.Name) and node.id in python:
+                    self.assertIn(node.id, OWN, f"{path}:{node.lineno}")
+
+
+if __name__ == "__main__":
+    unittest.main()
