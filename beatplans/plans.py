@@ -96,6 +96,11 @@ def windows_of(plan, period):
     return tuple([window_of(plan, period, s) for s in range(len(plan[1]))])
 
 
+def with_window(windows, s, window):
+    """The windows with this one in the place of that of span s."""
+    return windows[:s] + (window,) + windows[s + 1:]
+
+
 def length_of(plan, period, beats, s):
     """The least number of beats from low on that lies between the works of span s."""
     word, one, other, low, high = plan[1][s]
