@@ -23,6 +23,12 @@ def size_of(plan, period, stays):
     return size
 
 
+def refuse_great(plan, period, stays):
+    """TooMany where the plan is too great to be gone through."""
+    if size_of(plan, period, stays) > MOST_SIZE:
+        raise TooMany("plan")
+
+
 def first_void(windows):
     """The number of the first span whose window is void, None where none is."""
     for s, (least, most) in enumerate(windows):
@@ -61,8 +67,7 @@ def seek(plan, period, beats, forest, rings, windows):
 
 def times_or_none_with(plan, period, beats, stays):
     """("times", times) that have these works at these beats, or ("none", cases) that none do."""
-    if size_of(plan, period, stays) > MOST_SIZE:
-        raise TooMany("plan")
+    refuse_great(plan, period, stays)
     windows = windows_of(plan, period)
     void = first_void(windows)
     if void is not None:

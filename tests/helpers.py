@@ -1,7 +1,9 @@
 """What the tests share: plain things, plans by seed, and slow reckonings straight from the document."""
 
-from itertools import product
+from itertools import combinations, product
 from random import Random
+
+from beatplans.errors import PlanError, TooMany
 
 FORTY = int("9" * 40)
 NAMES = ("a", "bb", "ccc", "dddd", "eeeee", "ffffff", "ggggggg", "hhhhhhhh")
@@ -74,6 +76,14 @@ def refused(call, *things):
     except ValueError as refusal:
         return refusal
     return None
+
+
+def plan_is_refused(case, many, refusal):
+    """The case holds where the refusal is TooMany("plan") and many is true, or there is none and it isn't."""
+    case.assertIs(type(refusal), TooMany if many else type(None))
+    if many:
+        case.assertIsInstance(refusal, PlanError)
+        case.assertEqual(refusal.word, "plan")
 
 
 def some_span(rng, works, most):
@@ -229,40 +239,195 @@ def all_beats(plan, period):
     return product(range(period), repeat=len(plan[0]))
 
 
+def split_windows(windows, s, cut):
+    """The windows of the lower side and of the upper one."""
+    least, most = windows[s]
+    return (
+        windows[:s] + ((least, cut),) + windows[s + 1:],
+        windows[:s] + ((cut + 1, most),) + windows[s + 1:],
+    )
+
+
+def places_within(node):
+    """The places of the cases within a right node."""
+    return {"split": (3, 4), "stay": (2, 3)}.get(node[0], ())
+
+
+def node_paths(cases, path=()):
+    """The paths to all nodes, in the order of their numbers."""
+    yield path
+    for at in places_within(cases):
+        yield from node_paths(cases[at], path + (at,))
+
+
 def nodes_of(cases):
     """How many nodes cases have."""
-    return 1 + (nodes_of(cases[3]) + nodes_of(cases[4]) if cases[0] == "split" else 0)
+    return 1 + sum(nodes_of(cases[at]) for at in places_within(cases))
 
 
 def depth_of(cases):
     """How many nodes stand within one another."""
-    return 1 + (max(depth_of(cases[3]), depth_of(cases[4])) if cases[0] == "split" else 0)
+    return 1 + max([depth_of(cases[at]) for at in places_within(cases)], default=0)
 
 
-def slow_fault(plan, period, beats, stays, thing):
-    """The word and the number of the first node that isn't as told, None where all are."""
+def shape_of(node):
+    """How many things a node has and the first of them; None where it is no tuple or begins otherwise."""
+    return (len(node), node[0]) if type(node) is tuple and node and type(node[0]) is str else None
+
+
+def slow_ring_word(plan, period, beats, stays, windows, ring):
+    """The word for why this is no ring that bars, None where it is one."""
+    if not slow_is_ring(plan, stays, ring):
+        return "ring"
+    return None if slow_bars(period, beats, windows, ring) else "bar"
+
+
+def slow_split_word(plan, windows, node):
+    """The word for what is wrong with a split, None where nothing is."""
+    _, s, cut, _, _ = node
+    if not slow_is_whole(s) or s not in range(len(plan[1])):
+        return "span"
+    return None if slow_is_whole(cut) and cut in range(*windows[s]) else "cut"
+
+
+def slow_fault(plan, period, beats, stays, thing, price_word=None):
+    """The word and the number of the first node that isn't as told, None where all are.
+
+    Ends with prices are right where price_word is handed in and tells None of the windows and the prices there.
+    """
     at = [0]
 
     def look(node, windows):
         number = at[0]
         at[0] += 1
-        if type(node) is not tuple or (len(node), node[:1]) not in ((2, ("ring",)), (5, ("split",))):
-            return ("shape", number)
-        if len(node) == 2:
-            if not slow_is_ring(plan, stays, node[1]):
-                return ("ring", number)
-            return None if slow_bars(period, beats, windows, node[1]) else ("bar", number)
-        _, s, cut, lower, upper = node
-        if not slow_is_whole(s) or s not in range(len(plan[1])):
-            return ("span", number)
-        least, most = windows[s]
-        if not slow_is_whole(cut) or cut not in range(least, most):
-            return ("cut", number)
-        under = windows[:s] + ((least, cut),) + windows[s + 1:]
-        above = windows[:s] + ((cut + 1, most),) + windows[s + 1:]
-        return look(lower, under) or look(upper, above)
+        shape = shape_of(node)
+        if shape == (2, "ring"):
+            word = slow_ring_word(plan, period, beats, stays, windows, node[1])
+        elif shape == (2, "prices") and price_word:
+            word = price_word(windows, node[1])
+        elif shape == (5, "split"):
+            word = slow_split_word(plan, windows, node)
+            if word is None:
+                under, above = split_windows(windows, node[1], node[2])
+                return look(node[3], under) or look(node[4], above)
+        else:
+            word = "shape"
+        return word and (word, number)
 
     return look(thing, slow_windows(plan, period))
+
+
+def some_rings(rng, plan, stays):
+    """Rings of this plan of up to four entries."""
+    steps = []
+    for s, (_, one, other, _, _) in enumerate(plan[1]):
+        steps += [((s, 1), one, other), ((s, -1), other, one)]
+    steps += [(("home", one, other), one, other) for one in stays for other in stays]
+    rings = []
+    for many in (1, 2, 3, 4):
+        for _ in range(60):
+            row = [rng.choice(steps)] if steps else []
+            while row and len(row) < many:
+                row.append(rng.choice([step for step in steps if step[1] == row[-1][2]] or steps))
+            if row and all(row[at - 1][2] == row[at][1] for at in range(len(row))):
+                rings.append(tuple([step[0] for step in row]))
+    return rings
+
+
+def line(works, joined):
+    """A plan whose first works are joined one to the next, the others alone."""
+    return (NAMES[:works], tuple([("span", work, work + 1, 0, 9999) for work in range(joined - 1)]))
+
+
+def tracks(works, hold):
+    """A plan of works that each hold one single track."""
+    return (NAMES[:works], tuple([("apart", one, other, hold, hold) for one, other in combinations(range(works), 2)]))
+
+
+def forbidding(period, holes, rounds):
+    """A plan of two works: each span forbids the lengths of one hole (first, last) and lets all others be."""
+    spans = []
+    for first, last in holes:
+        low = last + 1 + rounds * period
+        spans.append(("span", 0, 1, low, low + period - 1 - (last + 1 - first)))
+    return (NAMES[:2], tuple(spans))
+
+
+def random_small(rng):
+    """Any plan whose size is small enough, with a round, beats and stays."""
+    while True:
+        period = rng.choice((1, 2, 3, 4, 5, 6, 8, 12, 17, 100, 300, 600))
+        most = min(9999, rng.choice((period, 2 * period, 4 * period, 9999)))
+        plan = some_plan(rng, rng.randint(1, 8), rng.randint(0, rng.choice((3, 8, 24))), most)
+        if rng.random() < 0.6:
+            plan = kept_plan(rng, plan, period, some_beats(rng, plan, period), rng.choice((0, 1, period)))
+        if rng.random() < 0.5 and len(plan[1]) in range(1, 24):
+            one = some_span(rng, len(plan[0]), most)
+            plan = (plan[0], plan[1] + (one,))
+        stays = tuple([work for work in range(len(plan[0])) if rng.random() < rng.choice((0, 0.3, 0.8, 1))])
+        if slow_size(plan, period, stays) <= 300:
+            return (plan, period, some_beats(rng, plan, period), stays)
+
+
+def free_small(rng):
+    """Any plan whose size without stays is small enough, with a round."""
+    while True:
+        plan, period, _, stays = random_small(rng)
+        if slow_size(plan, period, ()) <= 300:
+            return (plan, period)
+
+
+def first_rows(plan, period):
+    """All beats with the first work of each part at beat 0."""
+    firsts = [part[0] for part in slow_parts(plan)]
+    return product(*[range(1 if work in firsts else period) for work in range(len(plan[0]))])
+
+
+def slow_all_times(plan, period):
+    """All times with the first work of each part at beat 0."""
+    return [row for row in first_rows(plan, period) if slow_keeps(plan, period, row)]
+
+
+def slow_waits(plan, period, weights, beats):
+    """The waits, span by span."""
+    return sum(weight * (slow_length(span, period, beats) - span[3]) for weight, span in zip(weights, plan[1]))
+
+
+def slow_are_prices(plan, thing):
+    """Whether it is prices of this plan."""
+    return type(thing) is tuple and len(thing) < 25 and all(
+        type(pair) is tuple and len(pair) == 2 and slow_is_whole(pair[0]) and 0 < pair[0] < 1000
+        and slow_is_ring(plan, (), pair[1])
+        for pair in thing
+    )
+
+
+def slow_shown(plan, period, weights, windows, prices):
+    """What prices show by windows, as it is told."""
+    shown = 0
+    for s, span in enumerate(plan[1]):
+        left = weights[s]
+        for price, ring in prices:
+            left -= price * (ring.count((s, 1)) - ring.count((s, -1)))
+        shown += left * (windows[s][0 if left >= 0 else 1] - span[3])
+    for price, ring in prices:
+        least = slow_sums((), windows, ring)[0]
+        at_least = least + (-least) % period
+        shown += price * at_least
+        for s, way in ring:
+            shown -= price * way * plan[1][s][3]
+    return shown
+
+
+def some_weights(rng, plan):
+    """Any weights of this plan."""
+    return tuple([rng.choice((0, 0, 1, 99, rng.randint(0, 99))) for _ in plan[1]])
+
+
+def some_prices(rng, rings):
+    """Any prices with these rings."""
+    many = rng.choice((0, 1, 1, 2, 3, 24)) if rings else 0
+    return tuple([(rng.choice((1, 2, 999, rng.randint(1, 120))), rng.choice(rings)) for _ in range(many)])
 
 
 def seeded(word):

@@ -1,52 +1,15 @@
 """[16], [5] The size of a plan; times found, or cases that there are none."""
 
 import unittest
-from itertools import combinations
 
-from beatplans.errors import PlanError, TooMany
 from beatplans.finding import size_of, times_or_none, times_or_none_with
 from beatplans.moving import beats_many, beats_turned, plan_many, plan_turned, shifted
 from beatplans.nonechecker import lets_none, lets_none_with
 from beatplans.plans import are_beats, unkept
 from tests.helpers import (
-    NAMES, all_beats, depth_of, kept_plan, nodes_of, refused, seeded, slow_fault, slow_keeps, slow_size, slow_times,
-    some_beats, some_plan, some_span,
+    NAMES, all_beats, depth_of, forbidding, line, nodes_of, plan_is_refused, random_small, refused, seeded, slow_fault,
+    slow_keeps, slow_size, slow_times, some_beats, some_plan, tracks,
 )
-
-
-def line(works, joined):
-    """A plan whose first works are joined one to the next, the others alone."""
-    return (NAMES[:works], tuple([("span", work, work + 1, 0, 9999) for work in range(joined - 1)]))
-
-
-def tracks(works, hold):
-    """A plan of works that each hold one single track."""
-    return (NAMES[:works], tuple([("apart", one, other, hold, hold) for one, other in combinations(range(works), 2)]))
-
-
-def forbidding(period, holes, rounds):
-    """A plan of two works: each span forbids the lengths of one hole (first, last) and lets all others be."""
-    spans = []
-    for first, last in holes:
-        low = last + 1 + rounds * period
-        spans.append(("span", 0, 1, low, low + period - 1 - (last + 1 - first)))
-    return (NAMES[:2], tuple(spans))
-
-
-def random_small(rng):
-    """Any plan whose size is small enough, with a round, beats and stays."""
-    while True:
-        period = rng.choice((1, 2, 3, 4, 5, 6, 8, 12, 17, 100, 300, 600))
-        most = min(9999, rng.choice((period, 2 * period, 4 * period, 9999)))
-        plan = some_plan(rng, rng.randint(1, 8), rng.randint(0, rng.choice((3, 8, 24))), most)
-        if rng.random() < 0.6:
-            plan = kept_plan(rng, plan, period, some_beats(rng, plan, period), rng.choice((0, 1, period)))
-        if rng.random() < 0.5 and len(plan[1]) in range(1, 24):
-            one = some_span(rng, len(plan[0]), most)
-            plan = (plan[0], plan[1] + (one,))
-        stays = tuple([work for work in range(len(plan[0])) if rng.random() < rng.choice((0, 0.3, 0.8, 1))])
-        if slow_size(plan, period, stays) <= 300:
-            return (plan, period, some_beats(rng, plan, period), stays)
 
 
 class Size(unittest.TestCase):
@@ -278,12 +241,7 @@ class Found(unittest.TestCase):
             if not stays:
                 refusals.append(refused(times_or_none, plan, period))
             for refusal in refusals:
-                if many:
-                    self.assertIs(type(refusal), TooMany)
-                    self.assertIsInstance(refusal, PlanError)
-                    self.assertEqual(refusal.word, "plan")
-                else:
-                    self.assertIsNone(refusal)
+                plan_is_refused(self, many, refusal)
 
     def test_too_many_just_where_the_size_is(self):
         rng = seeded("too many")
@@ -294,8 +252,7 @@ class Found(unittest.TestCase):
             stays = tuple([work for work in range(len(plan[0])) if rng.random() < 0.4])
             for some in ((), stays):
                 refusal = refused(times_or_none_with, plan, period, beats, some)
-                self.assertEqual(refusal is not None, slow_size(plan, period, some) > 300)
-                self.assertIs(type(refusal), TooMany if refusal else type(None))
+                plan_is_refused(self, slow_size(plan, period, some) > 300, refusal)
 
     def test_moved_and_called_otherwise(self):
         rng = seeded("moved times")

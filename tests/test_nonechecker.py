@@ -6,8 +6,8 @@ from itertools import product
 from beatplans.errors import NoPaper, PlanError
 from beatplans.nonechecker import lets_none, lets_none_with
 from tests.helpers import (
-    FORTY, all_beats, at_path, depth_of, nodes_of, paths_of, plain_things, put, refused, seeded, slow_bars,
-    slow_fault, slow_keeps, slow_times, slow_windows, some_beats, some_plan,
+    FORTY, all_beats, at_path, depth_of, node_paths, nodes_of, paths_of, plain_things, put, refused, seeded, slow_bars,
+    slow_fault, slow_keeps, slow_times, slow_windows, some_beats, some_plan, some_rings, split_windows,
 )
 
 # By a round of 10 each two of the first three spans can be kept together, but not all three.
@@ -39,35 +39,9 @@ def full(windows, order):
         least, most = windows[s]
         if least < most:
             cut = (least + most) // 2
-            under = windows[:s] + ((least, cut),) + windows[s + 1:]
-            above = windows[:s] + ((cut + 1, most),) + windows[s + 1:]
+            under, above = split_windows(windows, s, cut)
             return ("split", s, cut, full(under, order), full(above, order))
     return END
-
-
-def node_paths(cases, path=()):
-    """The paths to all nodes, in the order of their numbers."""
-    yield path
-    if cases[0] == "split":
-        yield from node_paths(cases[3], path + (3,))
-        yield from node_paths(cases[4], path + (4,))
-
-
-def some_rings(rng, plan, stays):
-    """Rings of this plan of up to four entries."""
-    steps = []
-    for s, (_, one, other, _, _) in enumerate(plan[1]):
-        steps += [((s, 1), one, other), ((s, -1), other, one)]
-    steps += [(("home", one, other), one, other) for one in stays for other in stays]
-    rings = []
-    for many in (1, 2, 3, 4):
-        for _ in range(60):
-            row = [rng.choice(steps)] if steps else []
-            while row and len(row) < many:
-                row.append(rng.choice([step for step in steps if step[1] == row[-1][2]] or steps))
-            if row and all(row[at - 1][2] == row[at][1] for at in range(len(row))):
-                rings.append(tuple([step[0] for step in row]))
-    return rings
 
 
 def some_cases(rng, plan, period, beats, rings, windows, depth):
@@ -79,8 +53,7 @@ def some_cases(rng, plan, period, beats, rings, windows, depth):
     s = rng.choice(wide)
     least, most = windows[s]
     cut = rng.choice((least, most - 1, rng.randint(least, most - 1)))
-    under = windows[:s] + ((least, cut),) + windows[s + 1:]
-    above = windows[:s] + ((cut + 1, most),) + windows[s + 1:]
+    under, above = split_windows(windows, s, cut)
     lower = some_cases(rng, plan, period, beats, rings, under, depth - 1)
     return ("split", s, cut, lower, some_cases(rng, plan, period, beats, rings, above, depth - 1))
 
