@@ -46,6 +46,13 @@ def first_wide(forest, windows):
     return None
 
 
+def halved(windows, s):
+    """The cut that halves the window of span s, and the windows of the lower side and of the upper one."""
+    least, most = windows[s]
+    cut = (least + most) // 2
+    return (cut, (with_window(windows, s, (least, cut)), with_window(windows, s, (cut + 1, most))))
+
+
 def seek(plan, period, beats, forest, rings, windows):
     """("times", windows) with one length left of each span of the forest, no ring barring, or ("none", cases)."""
     for ring in rings:
@@ -54,11 +61,10 @@ def seek(plan, period, beats, forest, rings, windows):
     s = first_wide(forest, windows)
     if s is None:
         return ("times", windows)
-    least, most = windows[s]
-    cut = (least + most) // 2
+    cut, sides = halved(windows, s)
     cases = []
-    for window in ((least, cut), (cut + 1, most)):
-        word, found = seek(plan, period, beats, forest, rings, with_window(windows, s, window))
+    for side in sides:
+        word, found = seek(plan, period, beats, forest, rings, side)
         if word == "times":
             return ("times", found)
         cases.append(found)

@@ -31,6 +31,29 @@ def trees():
     return [(path, ast.parse(path.read_text())) for path in files()]
 
 
+def is_walk(node):
+    """Whether it is a call of which what comes is to be walked on the spot."""
+    if not isinstance(node, ast.Call):
+        return False
+    if isinstance(node.func, ast.Name):
+        return node.func.id in ("range", "zip", "enumerate", "reversed")
+    return isinstance(node.func, ast.Attribute) and node.func.attr in ("items", "keys", "values")
+
+
+def walked_on_the_spot(tree):
+    """All that stands where it is walked at once."""
+    for node in ast.walk(tree):
+        if isinstance(node, (ast.For, ast.comprehension)):
+            yield node.iter
+        elif isinstance(node, ast.Call) and isinstance(node.func, ast.Name) and node.args:
+            if node.func.id in ("list", "tuple", "dict", "sorted", "sum", "any", "all", "enumerate", "zip", "bytes"):
+                yield node.args[0]
+            elif node.func.id in ("min", "max") and len(node.args) == 1:
+                yield node.args[0]
+        elif isinstance(node, ast.Compare) and isinstance(node.ops[0], (ast.In, ast.NotIn)):
+            yield node.comparators[0]
+
+
 def bound_in(tree):
     """Each name that is bound by an assignment, a loop or a parameter."""
     for node in ast.walk(tree):
@@ -104,6 +127,22 @@ class Language(unittest.TestCase):
                             self.assertIsInstance(right, ast.Constant, where)
                 if isinstance(node, ast.BinOp) and isinstance(node.op, ast.Pow):
                     self.assertIsInstance(node.right, ast.Constant, where)
+
+    def test_walks(self):
+        for path, tree in trees():
+            spots = list(walked_on_the_spot(tree))
+            for node in ast.walk(tree):
+                if is_walk(node):
+                    self.assertIn(node, spots, f"{path}:{node.lineno}")
+
+    def test_handlers_and_raises(self):
+        for path, tree in trees():
+            for node in ast.walk(tree):
+                if isinstance(node, ast.ExceptHandler):
+                    self.assertIsInstance(node.type, ast.Name, path)
+                    self.assertNotIn(node.type.id, ("Exception", "TypeError"), path)
+                if isinstance(node, ast.Raise) and node.exc:
+                    self.assertIsInstance(node.exc, ast.Call, f"{path}:{node.lineno}")
 
     def test_defs_and_classes(self):
         for path, tree in trees():
