@@ -430,6 +430,116 @@ def some_prices(rng, rings):
     return tuple([(rng.choice((1, 2, 999, rng.randint(1, 120))), rng.choice(rings)) for _ in range(many)])
 
 
+def slow_differing(one, other):
+    """At how many works two beats differ."""
+    return sum(map(int.__ne__, one, other))
+
+
+def slow_fewest(plan, period, beats):
+    """At how many works times differ from these beats at least, None where there are none.
+
+    Each part is gone through by itself: all its times with the first work at beat 0, moved by all numbers.
+    """
+    fewest = 0
+    for part in slow_parts(plan):
+        spans = tuple([span for span in plan[1] if span[1] in part])
+        counts = []
+        for row in product(*[range(1 if work == part[0] else period) for work in part]):
+            found = [0] * len(plan[0])
+            for work, beat in zip(part, row):
+                found[work] = beat
+            if slow_keeps((plan[0], spans), period, found):
+                for by in range(period):
+                    counts.append(sum((found[work] + by) % period != beats[work] for work in part))
+        if not counts:
+            return None
+        fewest += min(counts)
+    return fewest
+
+
+def slow_buffer(span, period, beats):
+    """The buffer, as it is told."""
+    return slow_length(span, period, beats) - span[3]
+
+
+def slow_step(span, period, beats):
+    """The step, counted round by round."""
+    ahead = beats[span[1]] + slow_length(span, period, beats)
+    step = 0
+    while beats[span[2]] + step * period < ahead:
+        step += 1
+    return step
+
+
+def slow_late_bounds(plan, period, beats, waiting, many):
+    """All (turn, one, later, other, buffer): other at the later turn is as late as one at the turn, less the buffer."""
+    for s in waiting:
+        span = plan[1][s]
+        step = slow_step(span, period, beats)
+        for turn in range(many):
+            if turn + step < many:
+                yield (turn, span[1], turn + step, span[2], slow_buffer(span, period, beats))
+
+
+def slow_lateness(plan, period, beats, waiting, given, many):
+    """The lateness: of all that is late and not told yet the latest is told next, and hands on what it has to."""
+    bounds = list(slow_late_bounds(plan, period, beats, waiting, many))
+    late = {}
+    for work, turn, number in given:
+        late[turn, work] = max(number, late.get((turn, work), 0))
+    told = {}
+    while late:
+        place = max(late, key=late.get)
+        told[place] = late.pop(place)
+        for turn, one, later, other, buffer in bounds:
+            if (turn, one) == place and (later, other) not in told:
+                late[later, other] = max(told[place] - buffer, late.get((later, other), 0))
+    return tuple([tuple([told.get((turn, work), 0) for work in range(len(plan[0]))]) for turn in range(many)])
+
+
+def late_numbers(table):
+    """The (turn, work, number) of all numbers above 0, turn by turn, work by work."""
+    return [
+        (turn, work, number) for turn, row in enumerate(table) for work, number in enumerate(row) if number > 0
+    ]
+
+
+def slow_is_chain(plan, period, beats, waiting, given, number, thing):
+    """Whether it is a chain that leads to this (turn, work, number), gone along."""
+    if type(thing) is not tuple or len(thing) != 2:
+        return False
+    g, row = thing
+    if not slow_is_whole(g) or g not in range(len(given)) or type(row) is not tuple or len(row) > 100:
+        return False
+    work, turn, late = given[g]
+    for s in row:
+        if not slow_is_whole(s) or s not in waiting:
+            return False
+        span = plan[1][s]
+        if span[1] != work:
+            return False
+        turn, work, late = turn + slow_step(span, period, beats), span[2], late - slow_buffer(span, period, beats)
+    return (turn, work, late) == number
+
+
+def some_late(rng):
+    """Any plan, round, beats, waiting, given and many."""
+    period = rng.choice((1, 2, 3, 5, 12, 60, 600))
+    works = rng.randint(1, 8)
+    plan = some_plan(rng, works, rng.randint(0, rng.choice((2, 6, 24))), min(9999, rng.choice((1, 1, 2, 4, 13)) * period))
+    beats = some_beats(rng, plan, period)
+    if rng.random() < 0.6:
+        plan = kept_plan(rng, plan, period, beats, rng.choice((0, 0, 1, period)))
+    chance = rng.choice((0, 0.5, 0.9, 1, 1))
+    waiting = tuple([s for s in range(len(plan[1])) if rng.random() < chance])
+    many = rng.choice((1, 2, 3, 12, rng.randint(1, 12)))
+    given = tuple([
+        (rng.randrange(works), rng.randrange(rng.choice((1, many))), rng.choice((0, 1, 2, 9, 999, rng.randint(0, 999))))
+        for _ in range(rng.choice((0, 1, 1, 2, 3, 12)))
+    ])
+    return (plan, period, beats, waiting, given, many)
+
+
 def seeded(word):
     """A source of numbers that tells the same each time."""
     return Random(word)
