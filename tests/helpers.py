@@ -540,6 +540,33 @@ def some_late(rng):
     return (plan, period, beats, waiting, given, many)
 
 
+def changed_lines(rng, lines, row, word):
+    """The lines with something changed in this row: a word out, twice, exchanged, another one, one more; a sign; the line itself."""
+    line = lines[row]
+    words = line.split(" ")
+    at = rng.randrange(len(words))
+    other = rng.randrange(len(words))
+    place = rng.randint(0, len(line))
+    sign = rng.choice("abz09 -+A~.;")
+    exchanged = list(words)
+    exchanged[at], exchanged[other] = words[other], words[at]
+    news = [
+        words[:at] + words[at + 1:], words[:at] + [words[at]] + words[at:], exchanged, words[:at] + [word] + words[at + 1:],
+        words[:at] + [word] + words[at:], words + [word], words[:at] + ["0" + words[at]] + words[at + 1:],
+        [line[:place] + sign + line[place:]], [line[:place] + line[place + 1:]], [line[:place] + sign + line[place + 1:]],
+        ["", line], [line, ""],
+    ]
+    for new in news:
+        yield lines[:row] + [" ".join(new)] + lines[row + 1:]
+    yield lines[:row] + lines[row + 1:]
+    yield lines[:row] + [line] + lines[row:]
+    yield lines[:row] + [""] + lines[row:]
+    swap = rng.randrange(len(lines))
+    turned = list(lines)
+    turned[row], turned[swap] = lines[swap], lines[row]
+    yield turned
+
+
 def seeded(word):
     """A source of numbers that tells the same each time."""
     return Random(word)

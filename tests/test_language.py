@@ -17,6 +17,15 @@ WORDS = (
     "type|typing|typing_extensions|enum|Enum|IntEnum|StrEnum|Flag|IntFlag|Generic|Protocol|ABC|ABCMeta|namedtuple|"
     "NamedTuple|TypedDict|TYPE_CHECKING|abstractmethod|register|mro|elements|open|input|version_info"
 )
+PYTHON_METHODS = set(
+    "append clear copy count endswith extend find get index insert isalnum isalpha isdigit islower isspace isupper items "
+    "join keys ljust lower lstrip partition pop remove replace reverse rfind rjust rpartition rsplit rstrip setdefault "
+    "split splitlines startswith strip update upper values zfill bit_length".split()
+)
+KEYWORDS = {
+    "sorted": {"key", "reverse"}, "min": {"key", "default"}, "max": {"key", "default"}, "sum": {"start"}, "enumerate": {"start"},
+    "zip": {"strict"},
+}
 OUT = (
     ast.With, ast.Match, ast.Global, ast.Nonlocal, ast.Yield, ast.YieldFrom, ast.Await, ast.AsyncFunctionDef,
     ast.AsyncFor, ast.AsyncWith, ast.GeneratorExp, ast.NamedExpr, ast.Div, ast.MatMult, ast.Import, ast.TryStar,
@@ -159,6 +168,44 @@ class Language(unittest.TestCase):
                     self.assertLessEqual(len(node.bases), 1, where)
                     for row in node.body:
                         self.assertIsInstance(row, (ast.FunctionDef, ast.Expr, ast.Pass), where)
+
+    def test_methods_and_values(self):
+        methods, values = set(), set()
+        for path, tree in trees():
+            for held in [node for node in tree.body if isinstance(node, ast.ClassDef)]:
+                methods |= {row.name for row in held.body if isinstance(row, ast.FunctionDef)}
+                values |= {
+                    node.attr for node in ast.walk(held) if isinstance(node, ast.Attribute) and isinstance(node.ctx, ast.Store)
+                }
+        self.assertEqual(methods & values, set())
+        for path, tree in trees():
+            called = [node.func for node in ast.walk(tree) if isinstance(node, ast.Call)]
+            for node in ast.walk(tree):
+                if isinstance(node, ast.Attribute):
+                    own = PYTHON_METHODS | methods if node in called else values
+                    self.assertIn(node.attr, own, f"{path}:{node.lineno}")
+
+    def test_keywords(self):
+        for path, tree in trees():
+            for node in ast.walk(tree):
+                if isinstance(node, ast.Call) and node.keywords:
+                    self.assertIsInstance(node.func, ast.Name, f"{path}:{node.lineno}")
+                    allowed = KEYWORDS.get(node.func.id, set())
+                    self.assertLessEqual({word.arg for word in node.keywords}, allowed, f"{path}:{node.lineno}")
+
+    def test_tops_are_only_read(self):
+        """A list or dict of a file's top holds no list or dict, and is asked by an index or by in alone."""
+        for path, tree in trees():
+            tops = [node for node in tree.body if isinstance(node, ast.Assign) and isinstance(node.value, (ast.List, ast.Dict))]
+            for top in tops:
+                inner = [node for node in ast.walk(top.value) if isinstance(node, (ast.List, ast.Dict, ast.Set))]
+                self.assertEqual(inner, [top.value], path)
+                name = top.targets[0].id
+                asked = [node.value for node in ast.walk(tree) if isinstance(node, ast.Subscript) and isinstance(node.ctx, ast.Load)]
+                asked += [right for node in ast.walk(tree) if isinstance(node, ast.Compare) for right in node.comparators]
+                for node in ast.walk(tree):
+                    if isinstance(node, ast.Name) and node.id == name and isinstance(node.ctx, ast.Load):
+                        self.assertIn(node, asked, f"{path}:{node.lineno}")
 
     def test_names(self):
         python = set(dir(builtins))
